@@ -1,4 +1,4 @@
-// Package samples makes inputs for the tests of the other packages.
+// Package samples makes inputs for the tests of the other packages, and tells whether their results share memory.
 package samples
 
 import (

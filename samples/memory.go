@@ -1,0 +1,49 @@
+package samples
+
+import "obelus/api"
+
+// Apart reports whether no two slices in some flows, rows and heads share memory, up to their capacities.
+func Apart(values ...any) bool {
+	seen := make(map[any]bool)
+	for _, value := range values {
+		for _, address := range addresses(nil, value) {
+			if seen[address] {
+				return false
+			}
+			seen[address] = true
+		}
+	}
+	return true
+}
+
+// addresses appends the addresses of the elements of all slices in a value.
+func addresses(found []any, value any) []any {
+	switch v := value.(type) {
+	case []api.Item:
+		return inList(found, v)
+	case []api.Row:
+		return inList(found, v)
+	case api.Item:
+		return inList(inList(addresses(found, v.Head), v.Flow), v.Rows)
+	case api.Row:
+		return inList(addresses(found, v.Head), v.Cells)
+	case api.Cell:
+		return inList(addresses(found, v.Head), v.Flow)
+	case api.Head:
+		return inList(inList(inList(found, v.Props), v.Marks.Dels), v.Marks.Layers)
+	case api.Prop, api.Del, api.Layer:
+		return found
+	}
+	panic("samples: the slices of this type are not known")
+}
+
+func inList[T any](found []any, l []T) []any {
+	full := l[:cap(l)]
+	for i := range full {
+		found = append(found, &full[i])
+	}
+	for i := range l {
+		found = addresses(found, l[i])
+	}
+	return found
+}

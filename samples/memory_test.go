@@ -1,0 +1,47 @@
+package samples_test
+
+import (
+	"testing"
+
+	"obelus/api"
+	"obelus/samples"
+)
+
+func TestApart(t *testing.T) {
+	props := make([]api.Prop, 1, 3)
+	dels := make([]api.Del, 2)
+	layers := make([]api.Layer, 1)
+	flow := make([]api.Item, 2, 4)
+	head := func() api.Head { return api.Head{Props: make([]api.Prop, 1)} }
+	for i, l := range [][]any{
+		{api.Head{Props: props}, []api.Item{{Head: head(), Flow: flow}, {Head: head(), Rows: make([]api.Row, 2)}}, head(), []api.Item(nil), []api.Item{}},
+		{[]api.Row{{Head: head(), Cells: []api.Cell{{Head: head()}, {Head: head(), Flow: make([]api.Item, 1)}}}}, api.Head{Marks: api.Marks{Dels: dels, Layers: layers}}},
+	} {
+		if !samples.Apart(l...) {
+			t.Errorf("%d: not Apart", i)
+		}
+	}
+	for i, l := range [][]any{
+		{flow, flow},
+		{flow[:1], flow[2:3]},
+		{flow[:0:2], flow[1:]},
+		{api.Head{Props: props}, api.Item{Head: api.Head{Props: props[:0]}}},
+		{[]api.Item{{Flow: flow}, {Flow: flow}}},
+		{flow, api.Cell{Flow: flow[1:]}},
+		{api.Row{Head: api.Head{Marks: api.Marks{Dels: dels}}}, api.Cell{Head: api.Head{Marks: api.Marks{Dels: dels[1:]}}}},
+		{[]api.Row{{Cells: []api.Cell{{Head: api.Head{Marks: api.Marks{Layers: layers}}}}}, {Head: api.Head{Marks: api.Marks{Layers: layers}}}}},
+	} {
+		if samples.Apart(l...) {
+			t.Errorf("%d: Apart", i)
+		}
+	}
+}
+
+func TestApartOfOtherTypes(t *testing.T) {
+	defer func() {
+		if recover() == nil {
+			t.Error("Apart has an answer for ints")
+		}
+	}()
+	samples.Apart([]int{1})
+}
