@@ -1,6 +1,10 @@
 package run
 
-import "obelus/api"
+import (
+	"slices"
+
+	"obelus/api"
+)
 
 // equalLists reports whether two lists have equal elements in the same order.
 func equalLists[T any](a, b []T, equal func(a, b T) bool) bool {
@@ -19,9 +23,9 @@ func same[T comparable](a, b T) bool { return a == b }
 
 // copyList returns the copies of the elements of a list.
 func copyList[T any](l []T, copied func(T) T) []T {
-	var copies []T
-	for _, element := range l {
-		copies = append(copies, copied(element))
+	copies := slices.Clone(l)
+	for i := range copies {
+		copies[i] = copied(copies[i])
 	}
 	return copies
 }

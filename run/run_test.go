@@ -80,22 +80,6 @@ func (s source) items(most, depth int) []api.Item {
 	return l
 }
 
-// naiveUnits returns the units of a divisible flow, each as an item of its own.
-func naiveUnits(l []api.Item) []api.Item {
-	var units []api.Item
-	for _, item := range l {
-		if item.Kind != api.Text {
-			units = append(units, item)
-			continue
-		}
-		for _, r := range item.Text {
-			item.Text = string(r)
-			units = append(units, item)
-		}
-	}
-	return units
-}
-
 // naiveNormal removes and joins one after another, as the chapter says it.
 func naiveNormal(l []api.Item) []api.Item {
 	l = slices.Clone(l)
@@ -238,7 +222,7 @@ func TestP11_1Index(t *testing.T) {
 		l := s.flow(1)
 		at := 0
 		for i := range l {
-			for j := range len(naiveUnits(l[i : i+1])) {
+			for j := range len(samples.Units(l[i : i+1])) {
 				if index, inner, e := run.Index(l, at); index != i || inner != j || e != api.OK {
 					t.Fatalf("Index(%+v, %d) = %d, %d, %d; want %d, %d", l, at, index, inner, e, i, j)
 				}
@@ -362,7 +346,7 @@ func TestP11_3Split(t *testing.T) {
 	for range 1000 {
 		l := s.flow(2)
 		before := full(l)
-		units := naiveUnits(l)
+		units := samples.Units(l)
 		for at := range len(units) + 1 {
 			left, right, e := run.Split(l, at)
 			if e != api.OK {
@@ -394,7 +378,7 @@ func TestP11_4And5SliceAndReplace(t *testing.T) {
 			with = append(with, text("\xFF"), text("\xC3"))
 		}
 		before := full(l) + full(with)
-		units := naiveUnits(l)
+		units := samples.Units(l)
 		for from := -1; from <= len(units)+1; from++ {
 			for to := -1; to <= len(units)+1; to++ {
 				part, e := run.Slice(l, from, to)
@@ -607,7 +591,7 @@ func TestP11_9Consequences(t *testing.T) {
 		if !run.Equal(run.Normal(normal), normal) {
 			t.Fatalf("the normal form of %+v is another one", normal)
 		}
-		if points, e := codepoint.Count(run.Text(l)); e != api.OK || points != len(naiveUnits(l)) {
+		if points, e := codepoint.Count(run.Text(l)); e != api.OK || points != len(samples.Units(l)) {
 			t.Fatalf("Text(%+v) has %d code points", l, points)
 		}
 		kept := slices.DeleteFunc(slices.Clone(l), func(i api.Item) bool { return i.Kind == api.Table })

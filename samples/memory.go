@@ -2,7 +2,7 @@ package samples
 
 import "obelus/api"
 
-// Apart reports whether no two slices in some flows, rows and heads share memory, up to their capacities.
+// Apart reports whether no two slices in some documents, flows, rows, heads and properties share memory, up to their capacities.
 func Apart(values ...any) bool {
 	seen := make(map[any]bool)
 	for _, value := range values {
@@ -19,6 +19,16 @@ func Apart(values ...any) bool {
 // addresses appends the addresses of the elements of all slices in a value.
 func addresses(found []any, value any) []any {
 	switch v := value.(type) {
+	case api.Document:
+		return inList(addresses(addresses(inList(found, v.Flow), v.End), v.Settings), v.Revs)
+	case api.Settings:
+		return inList(inList(inList(inList(found, v.Styles), v.Lists), v.Comments), v.Vars)
+	case api.Style:
+		return inList(found, v.Props)
+	case api.List:
+		return inList(found, v.Levels)
+	case []api.Prop:
+		return inList(found, v)
 	case []api.Item:
 		return inList(found, v)
 	case []api.Row:
@@ -31,7 +41,7 @@ func addresses(found []any, value any) []any {
 		return inList(addresses(found, v.Head), v.Flow)
 	case api.Head:
 		return inList(inList(inList(found, v.Props), v.Marks.Dels), v.Marks.Layers)
-	case api.Prop, api.Del, api.Layer:
+	case api.Prop, api.Del, api.Layer, api.Rev, api.Level, api.Comment, api.Var:
 		return found
 	}
 	panic("samples: the slices of this type are not known")

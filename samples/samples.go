@@ -6,6 +6,8 @@ import (
 	"math"
 	"strconv"
 	"strings"
+
+	"obelus/api"
 )
 
 // Strings yields the concatenations of at most a number of parts, shorter ones first.
@@ -29,6 +31,22 @@ func extend(prefix string, parts []string, count int, yield func(string) bool) b
 		}
 	}
 	return true
+}
+
+// Units returns the units of a divisible flow, each as an item of its own.
+func Units(l []api.Item) []api.Item {
+	var units []api.Item
+	for _, item := range l {
+		if item.Kind != api.Text {
+			units = append(units, item)
+			continue
+		}
+		for _, point := range item.Text {
+			item.Text = string(point)
+			units = append(units, item)
+		}
+	}
+	return units
 }
 
 // Numbers returns small numbers, and the least and greatest ones.

@@ -6,6 +6,7 @@ import (
 	"slices"
 	"testing"
 
+	"obelus/api"
 	"obelus/samples"
 )
 
@@ -32,6 +33,14 @@ func TestRanges(t *testing.T) {
 	}
 	for range samples.Ranges("A, B") {
 		break
+	}
+}
+
+func TestUnits(t *testing.T) {
+	bold := api.Head{Props: []api.Prop{{Key: api.KeyBold, Value: 1}}}
+	units := samples.Units([]api.Item{{Kind: api.Text, Text: "a\u00e9", Head: bold}, {Kind: api.Text}, {Kind: api.Field, Text: "bc"}})
+	if len(units) != 3 || units[0].Text != "a" || units[1].Text != "\u00e9" || len(units[1].Head.Props) != 1 || units[2].Text != "bc" {
+		t.Errorf("Units = %+v", units)
 	}
 }
 
