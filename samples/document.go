@@ -10,28 +10,16 @@ import (
 // Document makes a valid document, not always in normal form, with elements of all kinds. It chooses with pick(n), a number from 0 to n - 1.
 func Document(pick func(n int) int) api.Document {
 	m := &maker{pick: pick}
-	m.doc.Settings = api.Settings{
-		Styles: beginning(pick, []api.Style{
-			{Id: 1, Kind: api.ParaStyle, Name: "Normal", Props: m.props(api.KeySize, api.KeyAfter)},
-			{Id: 2, Kind: api.ParaStyle, Name: "Heading", Base: 1, Next: 1, Props: m.props(api.KeyBold, api.KeyAlign, api.KeyOutline)},
-			{Id: 4, Kind: api.CharStyle, Name: "Code", Props: m.props(api.KeyFont)},
-			{Id: 7, Kind: api.CharStyle, Name: "Strong", Base: 4, Props: m.props(api.KeyBold, api.KeyColor)},
-		}),
-		Lists: beginning(pick, []api.List{
-			{Id: 3, Levels: []api.Level{{Format: api.Decimal, Start: 1, Template: "%1."}, {Format: api.LowerAlpha, Template: "%1-%2", Restart: 1}}},
-			{Id: 5, Levels: []api.Level{{Format: api.Bullet, Template: "%1"}}},
-		}),
-		Comments: beginning(pick, []api.Comment{
-			{Id: 1, Author: "Ann", Time: 5, Text: "why?"},
-			{Id: 6, Parent: 1, Author: "Bob", Text: "\u00e9", Done: true},
-		}),
-		Vars: beginning(pick, []api.Var{{Name: "a", Value: "1"}, {Name: "b-2"}}),
-	}
+	m.doc.Settings = m.settings()
 	m.doc.Revs = beginning(pick, []api.Rev{{Id: 1, Author: "Ann", Time: 5}, {Id: 2, Author: "Bob", Time: 3}, {Id: 4, Author: "Ann"}, {Id: 9, Author: "Cyd", Time: api.MaxTime}})
-	m.doc.Flow = m.flow(8, surroundings{body: true})
-	m.doc.End = m.head(api.Section)
-	m.doc.End.Marks = api.Marks{Layers: m.doc.End.Marks.Layers}
-	return m.doc
+	return m.document()
+}
+
+// Plain makes a valid document like Document, but without marks.
+func Plain(pick func(n int) int) api.Document {
+	m := &maker{pick: pick}
+	m.doc.Settings = m.settings()
+	return m.document()
 }
 
 // Items makes items that are valid in the body of a document if their ids, which are from first on, are not in it.
@@ -55,6 +43,35 @@ type maker struct {
 	doc   api.Document
 	first int // ids are greater
 	ids   int
+}
+
+// settings makes the tables of a document.
+func (m *maker) settings() api.Settings {
+	return api.Settings{
+		Styles: beginning(m.pick, []api.Style{
+			{Id: 1, Kind: api.ParaStyle, Name: "Normal", Props: m.props(api.KeySize, api.KeyAfter)},
+			{Id: 2, Kind: api.ParaStyle, Name: "Heading", Base: 1, Next: 1, Props: m.props(api.KeyBold, api.KeyAlign, api.KeyOutline)},
+			{Id: 4, Kind: api.CharStyle, Name: "Code", Props: m.props(api.KeyFont)},
+			{Id: 7, Kind: api.CharStyle, Name: "Strong", Base: 4, Props: m.props(api.KeyBold, api.KeyColor)},
+		}),
+		Lists: beginning(m.pick, []api.List{
+			{Id: 3, Levels: []api.Level{{Format: api.Decimal, Start: 1, Template: "%1."}, {Format: api.LowerAlpha, Template: "%1-%2", Restart: 1}}},
+			{Id: 5, Levels: []api.Level{{Format: api.Bullet, Template: "%1"}}},
+		}),
+		Comments: beginning(m.pick, []api.Comment{
+			{Id: 1, Author: "Ann", Time: 5, Text: "why?"},
+			{Id: 6, Parent: 1, Author: "Bob", Text: "\u00e9", Done: true},
+		}),
+		Vars: beginning(m.pick, []api.Var{{Name: "a", Value: "1"}, {Name: "b-2"}}),
+	}
+}
+
+// document makes a document that has the tables and the revisions of the maker.
+func (m *maker) document() api.Document {
+	m.doc.Flow = m.flow(8, surroundings{body: true})
+	m.doc.End = m.head(api.Section)
+	m.doc.End.Marks = api.Marks{Layers: m.doc.End.Marks.Layers}
+	return m.doc
 }
 
 // id returns a new id; ids do not increase.

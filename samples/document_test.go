@@ -43,6 +43,43 @@ func TestDocument(t *testing.T) {
 	}
 }
 
+func TestPlain(t *testing.T) {
+	kinds := make(map[int]int)
+	var check func(l []api.Item)
+	unmarked := func(h api.Head) {
+		if m := h.Marks; m.Ins != 0 || m.Move != 0 || len(m.Dels)+len(m.Layers) > 0 {
+			t.Fatalf("the marks %+v", m)
+		}
+	}
+	check = func(l []api.Item) {
+		for _, item := range l {
+			unmarked(item.Head)
+			check(item.Flow)
+			for _, row := range item.Rows {
+				unmarked(row.Head)
+				for _, cell := range row.Cells {
+					unmarked(cell.Head)
+					check(cell.Flow)
+				}
+			}
+		}
+	}
+	for seed := range uint64(300) {
+		d := samples.Plain(rand.New(rand.NewPCG(seed, 3)).IntN)
+		unmarked(d.End)
+		check(d.Flow)
+		kindsIn(d.Flow, kinds)
+		if !samples.Apart(d) {
+			t.Fatalf("%+v shares memory with itself", d)
+		}
+	}
+	for kind := 1; kind <= 10; kind++ {
+		if kinds[kind] < 50 {
+			t.Errorf("there are %d elements of the kind %d", kinds[kind], kind)
+		}
+	}
+}
+
 func TestItems(t *testing.T) {
 	r := rand.New(rand.NewPCG(1, 2))
 	kinds := make(map[int]int)

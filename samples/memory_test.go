@@ -12,10 +12,12 @@ func TestApart(t *testing.T) {
 	dels := make([]api.Del, 2)
 	layers := make([]api.Layer, 1)
 	flow := make([]api.Item, 2, 4)
+	rows, cells, vars := make([]api.Row, 2), make([]api.Cell, 2), make([]api.Var, 2)
 	head := func() api.Head { return api.Head{Props: make([]api.Prop, 1)} }
 	for i, l := range [][]any{
 		{api.Head{Props: props}, []api.Item{{Head: head(), Flow: flow}, {Head: head(), Rows: make([]api.Row, 2)}}, head(), []api.Item(nil), []api.Item{}},
 		{[]api.Row{{Head: head(), Cells: []api.Cell{{Head: head()}, {Head: head(), Flow: make([]api.Item, 1)}}}}, api.Head{Marks: api.Marks{Dels: dels, Layers: layers}}},
+		{[]api.Edit{{Items: make([]api.Item, 1)}, {Rows: make([]api.Row, 1), Cells: make([]api.Cell, 2), Settings: api.Settings{Vars: make([]api.Var, 1)}}}, make([]api.Cell, 1)},
 	} {
 		if !samples.Apart(l...) {
 			t.Errorf("%d: not Apart", i)
@@ -30,6 +32,10 @@ func TestApart(t *testing.T) {
 		{flow, api.Cell{Flow: flow[1:]}},
 		{api.Row{Head: api.Head{Marks: api.Marks{Dels: dels}}}, api.Cell{Head: api.Head{Marks: api.Marks{Dels: dels[1:]}}}},
 		{[]api.Row{{Cells: []api.Cell{{Head: api.Head{Marks: api.Marks{Layers: layers}}}}}, {Head: api.Head{Marks: api.Marks{Layers: layers}}}}},
+		{api.Edit{Items: flow[:1]}, flow[3:4]},
+		{[]api.Edit{{Cells: cells[1:]}}, cells},
+		{api.Edit{Rows: rows}, api.Edit{Rows: rows[:0]}},
+		{api.Edit{Settings: api.Settings{Vars: vars}}, api.Edit{Settings: api.Settings{Vars: vars[1:]}}},
 	} {
 		if samples.Apart(l...) {
 			t.Errorf("%d: Apart", i)
