@@ -18,7 +18,7 @@ func many(count int, seed uint64, f func(r *rand.Rand, d api.Document, e api.Edi
 	r := rand.New(rand.NewPCG(17, seed))
 	for range count {
 		d := samples.Plain(r.IntN)
-		f(r, d, guess(r, d))
+		f(r, d, samples.Edit(r.IntN, d))
 	}
 }
 
@@ -57,7 +57,7 @@ func TestP1AllArguments(t *testing.T) {
 	reached := 0
 	for i, d := range wild {
 		for range 60 {
-			e := guess(r, d)
+			e := samples.Edit(r.IntN, d)
 			if r.IntN(2) == 0 {
 				e = api.Edit{Kind: 1 + r.IntN(14), Flow: r.IntN(3), At: number(), Count: number(), Sub: number(), To: number(), ToAt: number(), Fresh: number(), Key: number(), Value: number(), Items: d.Flow, Rows: []api.Row{{}, row(cell(0, d.Flow...))}, Cells: []api.Cell{cell(-1, d.Flow...)}, Settings: d.Settings}
 				keep(&e)
@@ -299,7 +299,7 @@ func TestP17_2RunOfMany(t *testing.T) {
 		for len(edits) < 4 && failed == api.OK {
 			for range 5 { // most edits shall be possible
 				if naiveCheck(want, e) != api.OK {
-					e = guess(r, want)
+					e = samples.Edit(r.IntN, want)
 				}
 			}
 			edits = append(edits, e)

@@ -2,14 +2,12 @@ package edit_test
 
 import (
 	"fmt"
-	"math/rand/v2"
 	"slices"
 
 	"obelus/api"
 	"obelus/document"
 	"obelus/edit"
 	"obelus/property"
-	"obelus/run"
 	"obelus/samples"
 )
 
@@ -24,49 +22,6 @@ func inserted(item api.Item) api.Item { item.Head.Marks.Ins = 1; return item }
 
 // show returns a string that is equal for equal values, where nil and empty slices are equal.
 func show(v any) string { return fmt.Sprintf("%+v", v) }
-
-// naiveRewrite returns a flow in which each flow and the rows of each table, from inside out, are what functions make of them.
-func naiveRewrite(id int, l []api.Item, flow func(id int, units []api.Item) []api.Item, rows func(id int, l []api.Row) []api.Row) []api.Item {
-	var all []api.Item
-	for _, u := range samples.Units(l) {
-		if u.Kind == api.Note {
-			u.Flow = naiveRewrite(u.Id, u.Flow, flow, rows)
-		}
-		if u.Kind == api.Table {
-			var rewritten []api.Row
-			for _, r := range u.Rows {
-				var cells []api.Cell
-				for _, c := range r.Cells {
-					cells = append(cells, api.Cell{Id: c.Id, Head: c.Head, Flow: naiveRewrite(c.Id, c.Flow, flow, rows)})
-				}
-				rewritten = append(rewritten, api.Row{Head: r.Head, Cells: cells})
-			}
-			u.Rows = rows(u.Id, rewritten)
-		}
-		all = append(all, u)
-	}
-	return flow(id, all)
-}
-
-// naiveFlow returns a document in which the units of a flow are what a function makes of them, and naiveTable one in which the rows of a table are.
-func naiveFlow(d api.Document, id int, f func(units []api.Item) []api.Item) api.Document {
-	d.Flow = naiveRewrite(0, d.Flow, func(own int, l []api.Item) []api.Item {
-		if own == id {
-			return f(l)
-		}
-		return l
-	}, func(_ int, l []api.Row) []api.Row { return l })
-	return d
-}
-func naiveTable(d api.Document, id int, f func(rows []api.Row) []api.Row) api.Document {
-	d.Flow = naiveRewrite(0, d.Flow, func(_ int, l []api.Item) []api.Item { return l }, func(own int, l []api.Row) []api.Row {
-		if own == id {
-			return f(l)
-		}
-		return l
-	})
-	return d
-}
 
 // join returns lists one after another.
 func join[T any](lists ...[]T) []T { return slices.Concat(lists...) }
@@ -126,11 +81,11 @@ func naiveMove(d api.Document, e api.Edit) api.Document {
 		}
 		return rest
 	}
-	d = naiveFlow(d, e.To, func(l []api.Item) []api.Item { return join(l[:e.ToAt], flow(place), l[e.ToAt:]) })
-	d = naiveFlow(d, e.Flow, func(l []api.Item) []api.Item { return taken(l, e.At) })
+	d = samples.WithFlow(d, e.To, func(l []api.Item) []api.Item { return join(l[:e.ToAt], flow(place), l[e.ToAt:]) })
+	d = samples.WithFlow(d, e.Flow, func(l []api.Item) []api.Item { return taken(l, e.At) })
 	next := e.Fresh
 	moved = naiveRenumber(moved, &next)
-	return naiveFlow(d, e.To, func(l []api.Item) []api.Item {
+	return samples.WithFlow(d, e.To, func(l []api.Item) []api.Item {
 		i := slices.IndexFunc(l, func(u api.Item) bool { return u.Kind == place.Kind })
 		return join(l[:i], moved, l[i+1:])
 	})
@@ -141,14 +96,14 @@ func naiveApply(d api.Document, e api.Edit) api.Document {
 	end := e.At + e.Count
 	switch e.Kind {
 	case api.EditInsert, api.EditPutAnchor:
-		return naiveFlow(d, e.Flow, func(l []api.Item) []api.Item { return join(l[:e.At], e.Items, l[e.At:]) })
+		return samples.WithFlow(d, e.Flow, func(l []api.Item) []api.Item { return join(l[:e.At], e.Items, l[e.At:]) })
 	case api.EditDelete:
-		return naiveFlow(d, e.Flow, func(l []api.Item) []api.Item {
+		return samples.WithFlow(d, e.Flow, func(l []api.Item) []api.Item {
 			anchors := slices.DeleteFunc(slices.Clone(l[e.At:end]), func(u api.Item) bool { return u.Kind != api.Anchor })
 			return join(l[:e.At], anchors, l[end:])
 		})
 	case api.EditFormat:
-		return naiveFlow(d, e.Flow, func(l []api.Item) []api.Item {
+		return samples.WithFlow(d, e.Flow, func(l []api.Item) []api.Item {
 			for i := e.At; i < end; i++ {
 				if property.Fits(l[i].Kind, e.Key) {
 					l[i].Head.Props = naiveSet(l[i].Head.Props, e)
@@ -159,17 +114,17 @@ func naiveApply(d api.Document, e api.Edit) api.Document {
 	case api.EditMove:
 		return naiveMove(d, e)
 	case api.EditInsertRows:
-		return naiveTable(d, e.Flow, func(l []api.Row) []api.Row { return join(l[:e.At], e.Rows, l[e.At:]) })
+		return samples.WithTable(d, e.Flow, func(l []api.Row) []api.Row { return join(l[:e.At], e.Rows, l[e.At:]) })
 	case api.EditDeleteRows:
-		return naiveTable(d, e.Flow, func(l []api.Row) []api.Row { return join(l[:e.At], l[end:]) })
+		return samples.WithTable(d, e.Flow, func(l []api.Row) []api.Row { return join(l[:e.At], l[end:]) })
 	case api.EditDropAnchor:
-		return naiveFlow(d, e.Flow, func(l []api.Item) []api.Item { return join(l[:e.At], l[e.At+1:]) })
+		return samples.WithFlow(d, e.Flow, func(l []api.Item) []api.Item { return join(l[:e.At], l[e.At+1:]) })
 	case api.EditFormatEnd:
 		d.End.Props = naiveSet(d.End.Props, e)
 	case api.EditSettings:
 		d.Settings = e.Settings
 	default:
-		return naiveTable(d, e.Flow, func(l []api.Row) []api.Row { return naiveRow(l, e) })
+		return samples.WithTable(d, e.Flow, func(l []api.Row) []api.Row { return naiveRow(l, e) })
 	}
 	return d
 }
@@ -387,108 +342,4 @@ func naiveCheckRows(d api.Document, e api.Edit, rows []api.Row) api.Errno {
 		return api.ErrRange
 	}
 	return naiveKey(d, e, property.Cell)
-}
-
-// guess makes an edit that is often, but not always, possible in a plain document.
-func guess(r *rand.Rand, d api.Document) api.Edit {
-	flows, tables := document.Flows(d), document.Tables(d)
-	some := func(ids []int) int {
-		if len(ids) == 0 || r.IntN(20) == 0 {
-			return r.IntN(10000) - 1
-		}
-		return ids[r.IntN(len(ids))]
-	}
-	e := api.Edit{Kind: 1 + r.IntN(14)}
-	if r.IntN(4) == 0 {
-		e.Kind = api.EditMove
-	} else if len(tables) > 0 && r.IntN(2) == 0 {
-		e.Kind = api.EditInsertRows + r.IntN(6)
-	}
-	switch e.Kind {
-	case api.EditFormatEnd, api.EditSettings:
-	case api.EditInsertRows, api.EditDeleteRows, api.EditInsertCells, api.EditDeleteCells, api.EditFormatRow, api.EditFormatCell:
-		e.Flow = some(tables)
-		item, _ := document.Table(d, e.Flow)
-		e.At = r.IntN(len(item.Rows) + 1)
-		if e.Kind == api.EditInsertCells || e.Kind == api.EditDeleteCells || e.Kind == api.EditFormatCell {
-			e.Sub = r.IntN(3)
-		}
-	default:
-		e.Flow = some(flows)
-		l, _ := document.Flow(d, e.Flow)
-		e.At = r.IntN(len(samples.Units(l))+3) - 1
-		if i := slices.IndexFunc(samples.Units(l), func(u api.Item) bool { return u.Kind == api.Anchor }); i >= 0 && e.Kind == api.EditDropAnchor {
-			e.At = i
-		}
-	}
-	fill(r, d, &e, some)
-	return e
-}
-
-// fill sets the other fields of a guess.
-func fill(r *rand.Rand, d api.Document, e *api.Edit, some func(ids []int) int) {
-	items := func() []api.Item {
-		l := samples.Items(r.IntN, d, 20000-r.IntN(2)*20000)
-		if r.IntN(4) > 0 {
-			l = naiveRewrite(0, l, func(_ int, l []api.Item) []api.Item {
-				return slices.DeleteFunc(l, func(u api.Item) bool { return u.Kind == api.Anchor })
-			}, func(_ int, l []api.Row) []api.Row { return l })
-		}
-		if len(l) > 0 && r.IntN(15) == 0 {
-			l[0].Head.Marks.Dels = []api.Del{{Rev: 1}}
-		}
-		return run.Clone(l)
-	}
-	switch e.Kind {
-	case api.EditInsert:
-		e.Items = items()
-	case api.EditPutAnchor:
-		e.Items = flow(comment(r.IntN(5)))
-	case api.EditMove:
-		e.Count, e.To, e.Fresh = r.IntN(5), some(document.Flows(d)), 30000
-		if r.IntN(4) == 0 {
-			e.Fresh = some(document.Ids(d))
-		}
-		l, _ := document.Flow(d, e.To)
-		e.ToAt = r.IntN(len(samples.Units(l))+2) - r.IntN(2)
-	case api.EditDelete:
-		e.Count = r.IntN(4)
-	case api.EditDeleteRows, api.EditDeleteCells:
-		e.Count = r.IntN(3)
-	case api.EditInsertRows:
-		for i := range r.IntN(3) {
-			e.Rows = append(e.Rows, row(cell(50000+i, items()...), cell(60000+i*r.IntN(2))))
-		}
-	case api.EditInsertCells:
-		for i := range r.IntN(3) {
-			e.Cells = append(e.Cells, cell(50000+i, items()...))
-		}
-	case api.EditSettings:
-		e.Settings = samples.Plain(r.IntN).Settings
-	case api.EditFormat:
-		e.Count = r.IntN(5)
-		setKey(r, e, 1, 90)
-	case api.EditFormatRow:
-		setKey(r, e, 50, 53)
-	case api.EditFormatCell:
-		setKey(r, e, 60, 64)
-	case api.EditFormatEnd:
-		setKey(r, e, 39, 49)
-	}
-}
-
-// setKey sets a key of a guess from a range of keys, and its value.
-func setKey(r *rand.Rand, e *api.Edit, from, to int) {
-	e.Key = from + r.IntN(to-from)
-	if r.IntN(4) == 0 {
-		e.Key = []int{api.KeyBold, api.KeySize, api.KeyParaStyle, api.KeyCharStyle, api.KeyList, api.KeyAlign}[r.IntN(6)]
-	}
-	e.Value = r.IntN(9)
-	if low, high, err := property.Bounds(e.Key); err == api.OK && r.IntN(2) == 0 {
-		e.Value = []int{low, high, low - 1, high + 1}[r.IntN(4)]
-	}
-	if r.IntN(4) == 0 {
-		e.Clear = true
-		e.Value *= r.IntN(2)
-	}
 }

@@ -11,7 +11,7 @@ import (
 func Document(pick func(n int) int) api.Document {
 	m := &maker{pick: pick}
 	m.doc.Settings = m.settings()
-	m.doc.Revs = beginning(pick, []api.Rev{{Id: 1, Author: "Ann", Time: 5}, {Id: 2, Author: "Bob", Time: 3}, {Id: 4, Author: "Ann"}, {Id: 9, Author: "Cyd", Time: api.MaxTime}})
+	m.doc.Revs = beginning(pick, Revs()[1:])
 	return m.document()
 }
 
@@ -20,6 +20,11 @@ func Plain(pick func(n int) int) api.Document {
 	m := &maker{pick: pick}
 	m.doc.Settings = m.settings()
 	return m.document()
+}
+
+// Revs returns the revisions of which documents have some, behind one that none of them has.
+func Revs() []api.Rev {
+	return []api.Rev{{Id: 3, Author: "Dan"}, {Id: 1, Author: "Ann", Time: 5}, {Id: 2, Author: "Bob", Time: 3}, {Id: 4, Author: "Ann"}, {Id: 9, Author: "Cyd", Time: api.MaxTime}}
 }
 
 // Items makes items that are valid in the body of a document if their ids, which are from first on, are not in it.

@@ -2,7 +2,7 @@ package samples
 
 import "obelus/api"
 
-// Apart reports whether no two slices in some documents, edits, flows, rows, heads and properties share memory, up to their capacities.
+// Apart reports whether no two slices in some documents, edits, splices, flows, rows, heads, properties and revisions share memory, up to their capacities.
 func Apart(values ...any) bool {
 	seen := make(map[any]bool)
 	for _, value := range values {
@@ -23,6 +23,10 @@ func addresses(found []any, value any) []any {
 		return inList(addresses(addresses(inList(found, v.Flow), v.End), v.Settings), v.Revs)
 	case api.Edit:
 		return addresses(inList(inList(inList(found, v.Items), v.Rows), v.Cells), v.Settings)
+	case api.Splice:
+		return addresses(addresses(found, v.Old), v.New)
+	case api.Piece:
+		return addresses(addresses(inList(inList(inList(found, v.Items), v.Rows), v.Cells), v.Head), v.Settings)
 	case api.Settings:
 		return inList(inList(inList(inList(found, v.Styles), v.Lists), v.Comments), v.Vars)
 	case api.Style:
@@ -38,6 +42,10 @@ func addresses(found []any, value any) []any {
 	case []api.Cell:
 		return inList(found, v)
 	case []api.Edit:
+		return inList(found, v)
+	case []api.Splice:
+		return inList(found, v)
+	case []api.Rev:
 		return inList(found, v)
 	case api.Item:
 		return inList(inList(addresses(found, v.Head), v.Flow), v.Rows)

@@ -12,11 +12,12 @@ func TestApart(t *testing.T) {
 	dels := make([]api.Del, 2)
 	layers := make([]api.Layer, 1)
 	flow := make([]api.Item, 2, 4)
-	rows, cells, vars := make([]api.Row, 2), make([]api.Cell, 2), make([]api.Var, 2)
+	rows, cells, vars, revs := make([]api.Row, 2), make([]api.Cell, 2), make([]api.Var, 2), make([]api.Rev, 2)
 	head := func() api.Head { return api.Head{Props: make([]api.Prop, 1)} }
 	for i, l := range [][]any{
 		{api.Head{Props: props}, []api.Item{{Head: head(), Flow: flow}, {Head: head(), Rows: make([]api.Row, 2)}}, head(), []api.Item(nil), []api.Item{}},
 		{[]api.Row{{Head: head(), Cells: []api.Cell{{Head: head()}, {Head: head(), Flow: make([]api.Item, 1)}}}}, api.Head{Marks: api.Marks{Dels: dels, Layers: layers}}},
+		{[]api.Splice{{Old: api.Piece{Items: make([]api.Item, 1)}, New: api.Piece{Rows: make([]api.Row, 1), Head: head()}}, {New: api.Piece{Cells: make([]api.Cell, 2), Settings: api.Settings{Vars: make([]api.Var, 1)}}}}, make([]api.Rev, 2)},
 		{[]api.Edit{{Items: make([]api.Item, 1)}, {Rows: make([]api.Row, 1), Cells: make([]api.Cell, 2), Settings: api.Settings{Vars: make([]api.Var, 1)}}}, make([]api.Cell, 1)},
 	} {
 		if !samples.Apart(l...) {
@@ -32,6 +33,12 @@ func TestApart(t *testing.T) {
 		{flow, api.Cell{Flow: flow[1:]}},
 		{api.Row{Head: api.Head{Marks: api.Marks{Dels: dels}}}, api.Cell{Head: api.Head{Marks: api.Marks{Dels: dels[1:]}}}},
 		{[]api.Row{{Cells: []api.Cell{{Head: api.Head{Marks: api.Marks{Layers: layers}}}}}, {Head: api.Head{Marks: api.Marks{Layers: layers}}}}},
+		{api.Splice{Old: api.Piece{Items: flow[:1]}}, flow[3:4]},
+		{[]api.Splice{{New: api.Piece{Rows: rows}}}, api.Piece{Rows: rows[:0]}},
+		{api.Splice{Old: api.Piece{Cells: cells}, New: api.Piece{Cells: cells[1:]}}},
+		{api.Splice{Old: api.Piece{Head: api.Head{Props: props}}, New: api.Piece{Head: api.Head{Props: props[:0]}}}},
+		{api.Piece{Settings: api.Settings{Vars: vars}}, api.Settings{Vars: vars[1:]}},
+		{revs, revs[:1]},
 		{api.Edit{Items: flow[:1]}, flow[3:4]},
 		{[]api.Edit{{Cells: cells[1:]}}, cells},
 		{api.Edit{Rows: rows}, api.Edit{Rows: rows[:0]}},
