@@ -66,6 +66,28 @@ func TestSplice(t *testing.T) {
 	}
 }
 
+func TestSplices(t *testing.T) {
+	whole := 0
+	for seed := range uint64(200) {
+		d := samples.Document(rand.New(rand.NewPCG(seed, 9)).IntN)
+		l, behind := samples.Splices(rand.New(rand.NewPCG(seed, 10)).IntN, d, 3, samples.Revs())
+		if len(l) > 3 || len(l) != len(behind) || !samples.Apart(d, l) {
+			t.Fatalf("%d splices and %d documents, or shared memory", len(l), len(behind))
+		}
+		for i := range l {
+			if out, _, e := splice.Run(d, l[:i+1], samples.Revs()); e != api.OK || !document.Equal(out, behind[i]) {
+				t.Fatalf("Run(%+v, %+v) = %+v, %d; want %+v", d, l[:i+1], out, e, behind[i])
+			}
+		}
+		if len(l) == 3 {
+			whole++
+		}
+	}
+	if whole < 150 {
+		t.Errorf("%d whole lists", whole)
+	}
+}
+
 func TestRewrite(t *testing.T) {
 	l := samples.Flow(samples.Text("ab"), samples.Note(3, samples.Para()), samples.Table(4, samples.Row(samples.Cell(6, samples.Note(7))), samples.Row(samples.Cell(5))))
 	var flows, tables []int

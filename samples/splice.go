@@ -7,6 +7,7 @@ import (
 	"obelus/document"
 	"obelus/property"
 	"obelus/run"
+	"obelus/splice"
 )
 
 // Splice makes a splice that can often, but not always, be applied to a document with some revisions. New ids are from 20000 on, and different at most calls.
@@ -36,6 +37,18 @@ func Splice(pick func(n int) int, d api.Document, revs []api.Rev) api.Splice {
 		m.mistake(&s)
 	}
 	return s
+}
+
+// Splices makes at most a number of splices that can be run with some revisions, one after another on a document, and the documents behind each of them.
+func Splices(pick func(n int) int, d api.Document, count int, revs []api.Rev) (l []api.Splice, behind []api.Document) {
+	for range 8 * count {
+		s := Splice(pick, d, revs)
+		next, e := splice.Apply(d, s, revs)
+		if e == api.OK && len(l) < count {
+			l, behind, d = append(l, s), append(behind, next), next
+		}
+	}
+	return l, behind
 }
 
 // splicer makes a splice of the document of its maker.

@@ -118,23 +118,11 @@ func TestP18_7Compact(t *testing.T) {
 	}
 }
 
-// chain returns splices that can be run with some revisions, one after another on a document, and the documents behind each of them.
-func chain(r *rand.Rand, d api.Document, count int, more []api.Rev) (l []api.Splice, behind []api.Document) {
-	for range 8 * count {
-		s := samples.Splice(r.IntN, d, more)
-		next, e := splice.Apply(d, s, more)
-		if e == api.OK && len(l) < count {
-			l, behind, d = append(l, s), append(behind, next), next
-		}
-	}
-	return l, behind
-}
-
 // TestP18_7Many compares the joins of splices with those that the rules give, and with what they lead to.
 func TestP18_7Many(t *testing.T) {
 	joined, shorter := make(map[int]int), 0
 	many(1400, 8, func(r *rand.Rand, d api.Document, _ api.Splice) {
-		l, behind := chain(r, d, 6, samples.Revs())
+		l, behind := samples.Splices(r.IntN, d, 6, samples.Revs())
 		if len(l) == 0 {
 			return
 		}
@@ -249,7 +237,7 @@ func TestP18_9Back(t *testing.T) {
 		if r.IntN(2) == 0 { // the way back needs all revisions that occur on it
 			more = samples.Revs()
 		}
-		l, behind := chain(r, d, 4, more)
+		l, behind := samples.Splices(r.IntN, d, 4, more)
 		if len(l) == 0 {
 			return
 		}
