@@ -221,3 +221,17 @@ func (m *maker) value(key int) int {
 	}
 	return values[m.pick(len(values))]
 }
+
+// Decision makes a valid decision about some revisions of an increasing list of ids; the others are undecided.
+func Decision(pick func(n int) int, revs []int) api.Decision {
+	var c api.Decision
+	for _, rev := range revs {
+		switch pick(3) {
+		case 0:
+			c.Accept = append(c.Accept, rev)
+		case 1:
+			c.Reject = append(c.Reject, rev)
+		}
+	}
+	return c
+}

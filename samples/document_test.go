@@ -131,3 +131,19 @@ func TestApartOfDocuments(t *testing.T) {
 		}
 	}
 }
+
+func TestDecision(t *testing.T) {
+	r := rand.New(rand.NewPCG(1, 11))
+	kinds := make(map[string]int)
+	for range 300 {
+		kinds[fmt.Sprint(samples.Decision(r.IntN, []int{3, 7}))]++
+	}
+	for _, kind := range []string{"{[] []}", "{[3] []}", "{[7] []}", "{[3 7] []}", "{[] [3]}", "{[] [7]}", "{[] [3 7]}", "{[3] [7]}", "{[7] [3]}"} {
+		if kinds[kind] < 10 {
+			t.Errorf("%d decisions are %s", kinds[kind], kind)
+		}
+	}
+	if len(kinds) != 9 {
+		t.Errorf("the decisions are %v", kinds)
+	}
+}
