@@ -2,7 +2,7 @@ package samples
 
 import "obelus/api"
 
-// Apart reports whether no two slices in some documents, edits, splices, flows, rows, heads, properties, layers, revisions, decisions, numbers and bools share memory, up to their capacities.
+// Apart reports whether no two slices in some documents, edits, splices, flows, rows, heads, properties, layers, revisions, decisions, ranges, numbers and bools share memory, up to their capacities.
 func Apart(values ...any) bool {
 	seen := make(map[any]bool)
 	for _, value := range values {
@@ -49,6 +49,8 @@ func addresses(found []any, value any) []any {
 		return inList(found, v)
 	case []api.Layer:
 		return inList(found, v)
+	case []api.Range:
+		return inList(found, v)
 	case []int:
 		return inList(found, v)
 	case []bool:
@@ -63,7 +65,7 @@ func addresses(found []any, value any) []any {
 		return inList(addresses(found, v.Head), v.Flow)
 	case api.Head:
 		return inList(inList(inList(found, v.Props), v.Marks.Dels), v.Marks.Layers)
-	case api.Prop, api.Del, api.Layer, api.Rev, api.Level, api.Comment, api.Var, int, bool:
+	case api.Prop, api.Del, api.Layer, api.Rev, api.Level, api.Comment, api.Var, api.Range, int, bool:
 		return found
 	}
 	panic("samples: the slices of this type are not known")

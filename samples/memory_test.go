@@ -13,13 +13,13 @@ func TestApart(t *testing.T) {
 	layers := make([]api.Layer, 1)
 	flow := make([]api.Item, 2, 4)
 	rows, cells, vars, revs := make([]api.Row, 2), make([]api.Cell, 2), make([]api.Var, 2), make([]api.Rev, 2)
-	numbers, bools := make([]int, 2, 3), make([]bool, 2)
+	numbers, bools, ranges := make([]int, 2, 3), make([]bool, 2), make([]api.Range, 2)
 	head := func() api.Head { return api.Head{Props: make([]api.Prop, 1)} }
 	for i, l := range [][]any{
 		{api.Head{Props: props}, []api.Item{{Head: head(), Flow: flow}, {Head: head(), Rows: make([]api.Row, 2)}}, head(), []api.Item(nil), []api.Item{}},
 		{[]api.Row{{Head: head(), Cells: []api.Cell{{Head: head()}, {Head: head(), Flow: make([]api.Item, 1)}}}}, api.Head{Marks: api.Marks{Dels: dels, Layers: layers}}},
 		{[]api.Splice{{Old: api.Piece{Items: make([]api.Item, 1)}, New: api.Piece{Rows: make([]api.Row, 1), Head: head()}}, {New: api.Piece{Cells: make([]api.Cell, 2), Settings: api.Settings{Vars: make([]api.Var, 1)}}}}, make([]api.Rev, 2)},
-		{api.Decision{Accept: make([]int, 2), Reject: make([]int, 2)}, make([]int, 2), make([]bool, 2), make([]api.Layer, 2)},
+		{api.Decision{Accept: make([]int, 2), Reject: make([]int, 2)}, make([]int, 2), make([]bool, 2), make([]api.Layer, 2), make([]api.Range, 2)},
 		{[]api.Edit{{Items: make([]api.Item, 1)}, {Rows: make([]api.Row, 1), Cells: make([]api.Cell, 2), Settings: api.Settings{Vars: make([]api.Var, 1)}}}, make([]api.Cell, 1)},
 	} {
 		if !samples.Apart(l...) {
@@ -43,6 +43,7 @@ func TestApart(t *testing.T) {
 		{revs, revs[:1]},
 		{numbers[:1], numbers[1:]},
 		{bools, bools[1:]},
+		{ranges, ranges[:1]},
 		{api.Head{Marks: api.Marks{Layers: layers}}, layers},
 		{api.Decision{Accept: numbers[:1], Reject: numbers[1:]}},
 		{api.Decision{Reject: numbers}, numbers},
