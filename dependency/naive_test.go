@@ -10,7 +10,6 @@ import (
 	"obelus/document"
 	"obelus/resolve"
 	"obelus/samples"
-	"obelus/track"
 )
 
 var (
@@ -213,20 +212,6 @@ func naiveOf(d api.Document, c api.Decision) dependency.Effect {
 	return e
 }
 
-// edited returns a document behind some tracked edits.
-func edited(r *rand.Rand, d api.Document) api.Document {
-	for range 12 {
-		e, rev := samples.Edit(r.IntN, resolve.Final(d)), samples.Revs()[r.IntN(5)]
-		if e.Kind == api.EditMove {
-			e.Fresh = document.Fresh(d)
-		}
-		if next, err := track.Track(d, e, rev); err == api.OK {
-			d = next
-		}
-	}
-	return d
-}
-
 // thinned returns a document without most of its marks.
 func thinned(r *rand.Rand, d api.Document) api.Document {
 	thin := func(h *api.Head) {
@@ -258,7 +243,7 @@ func many(count int, seed uint64, f func(r *rand.Rand, d api.Document)) {
 		d := samples.Document(r.IntN)
 		switch i % 3 {
 		case 0:
-			d = edited(r, samples.Plain(r.IntN))
+			d = samples.Edited(r.IntN, samples.Plain(r.IntN), 12)
 		case 1:
 			d = thinned(r, d)
 		}

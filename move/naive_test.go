@@ -9,10 +9,8 @@ import (
 	"obelus/api"
 	"obelus/document"
 	"obelus/move"
-	"obelus/resolve"
 	"obelus/run"
 	"obelus/samples"
-	"obelus/track"
 )
 
 var (
@@ -246,20 +244,6 @@ func mix(r *rand.Rand, m *api.Marks) {
 	}
 }
 
-// edited returns a document behind some tracked edits, many of which are moves.
-func edited(r *rand.Rand, d api.Document) api.Document {
-	for range 4 {
-		e, rev := samples.Edit(r.IntN, resolve.Final(d)), samples.Revs()[r.IntN(5)]
-		if e.Kind == api.EditMove {
-			e.Fresh = document.Fresh(d)
-		}
-		if next, err := track.Track(d, e, rev); err == api.OK {
-			d = next
-		}
-	}
-	return d
-}
-
 // many calls a function for many valid documents in normal form.
 func many(count int, seed uint64, f func(r *rand.Rand, d api.Document)) {
 	r := rand.New(rand.NewPCG(26, seed))
@@ -269,7 +253,7 @@ func many(count int, seed uint64, f func(r *rand.Rand, d api.Document)) {
 		case 0:
 			d = moved(r, d)
 		case 1:
-			d = edited(r, d)
+			d = samples.Edited(r.IntN, d, 4)
 		}
 		f(r, d)
 	}

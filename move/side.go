@@ -8,6 +8,7 @@ import (
 
 	"obelus/api"
 	"obelus/document"
+	"obelus/flows"
 	"obelus/run"
 )
 
@@ -59,7 +60,7 @@ func collect(d api.Document) map[pair]*moved {
 		}
 		return moves[p]
 	}
-	visitFlows(0, d.Flow, func(id int, l []api.Item) {
+	for id, l := range flows.All(d) {
 		at := 0
 		for i, item := range l {
 			length, _ := run.Len(l[i : i+1])
@@ -74,7 +75,7 @@ func collect(d api.Document) map[pair]*moved {
 				}
 			}
 		}
-	})
+	}
 	return moves
 }
 

@@ -23,20 +23,3 @@ func visitFlow(l []api.Item, f func(h *api.Head)) {
 		}
 	}
 }
-
-// visitFlows calls a function for each flow in an item of a flow, and for this flow itself, in document order.
-func visitFlows(id int, l []api.Item, f func(id int, l []api.Item)) {
-	f(id, l)
-	for _, item := range l {
-		switch item.Kind {
-		case api.Note:
-			visitFlows(item.Id, item.Flow, f)
-		case api.Table:
-			for _, row := range item.Rows {
-				for _, cell := range row.Cells {
-					visitFlows(cell.Id, cell.Flow, f)
-				}
-			}
-		}
-	}
-}

@@ -8,6 +8,7 @@ import (
 	"obelus/api"
 	"obelus/document"
 	"obelus/edit"
+	"obelus/move"
 	"obelus/samples"
 	"obelus/splice"
 )
@@ -132,5 +133,32 @@ func TestWithFlowAndTable(t *testing.T) {
 		if fmt.Sprintf("%+v", d) != before {
 			t.Fatalf("%s was changed", before)
 		}
+	}
+}
+
+func TestEdited(t *testing.T) {
+	tracked, moved := 0, 0
+	for seed := range uint64(300) {
+		d := document.Normal(samples.Plain(rand.New(rand.NewPCG(seed, 11)).IntN))
+		before := fmt.Sprintf("%+v", d)
+		got := samples.Edited(rand.New(rand.NewPCG(seed, 12)).IntN, d, 10)
+		if again := samples.Edited(rand.New(rand.NewPCG(seed, 12)).IntN, d, 10); fmt.Sprintf("%+v", got) != fmt.Sprintf("%+v", again) {
+			t.Fatalf("the same choices make %+v and %+v", got, again)
+		}
+		if same := samples.Edited(nil, d, 0); fmt.Sprintf("%+v", same) != before {
+			t.Fatalf("no edits make %+v of %s", same, before)
+		}
+		if e := document.Check(got); e != api.OK || fmt.Sprintf("%+v", d) != before {
+			t.Fatalf("%+v has the error %d, or %s was changed", got, e, before)
+		}
+		if !document.Plain(got) {
+			tracked++
+		}
+		if len(move.List(got)) > 0 {
+			moved++
+		}
+	}
+	if tracked < 150 || moved < 50 {
+		t.Errorf("%d documents are tracked, %d have moves", tracked, moved)
 	}
 }

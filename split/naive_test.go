@@ -8,11 +8,9 @@ import (
 
 	"obelus/api"
 	"obelus/document"
-	"obelus/resolve"
 	"obelus/revision"
 	"obelus/run"
 	"obelus/samples"
-	"obelus/track"
 )
 
 var (
@@ -323,20 +321,6 @@ func naiveReassign(d api.Document, rev int, to api.Rev) (api.Document, api.Errno
 	return naiveNew(changed(d, around{}, func(h api.Head, _ bool) (api.Head, bool) { return renamed(h, instead(rev, to.Id)), true }), []int{rev, to.Id}, to), api.OK
 }
 
-// edited returns a document behind some tracked edits.
-func edited(r *rand.Rand, d api.Document) api.Document {
-	for range 6 {
-		e, rev := samples.Edit(r.IntN, resolve.Final(d)), samples.Revs()[r.IntN(5)]
-		if e.Kind == api.EditMove {
-			e.Fresh = document.Fresh(d)
-		}
-		if next, err := track.Track(d, e, rev); err == api.OK {
-			d = next
-		}
-	}
-	return d
-}
-
 // mixed gives random numbers of moves to some marks of a document, and none to the others.
 func mixed(r *rand.Rand, d api.Document) api.Document {
 	seldom := func() int { return []int{0, 0, 0, 0, 1, 2, 6, api.MaxId}[r.IntN(8)] }
@@ -358,7 +342,7 @@ func many(count int, seed uint64, f func(r *rand.Rand, d api.Document)) {
 		d := samples.Document(r.IntN)
 		switch i % 3 {
 		case 0:
-			d = edited(r, samples.Plain(r.IntN))
+			d = samples.Edited(r.IntN, samples.Plain(r.IntN), 6)
 		case 1:
 			d = mixed(r, d)
 		}
