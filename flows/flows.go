@@ -1,8 +1,9 @@
-// Package flows visits the flows of a document. It is no layer of its own: layers that look at all flows use it.
+// Package flows visits the flows of a document, and divides them into their units. It is no layer of its own: several layers use it.
 package flows
 
 import (
 	"iter"
+	"unicode/utf8"
 
 	"obelus/api"
 )
@@ -41,4 +42,21 @@ func walkRows(rows []api.Row, yield func(id int, l []api.Item) bool) bool {
 		}
 	}
 	return true
+}
+
+// Units returns the units of a flow, each as an item of its own. They share the memory of their heads and contents with the flow.
+func Units(l []api.Item) []api.Item {
+	var units []api.Item
+	for _, item := range l {
+		if item.Kind != api.Text {
+			units = append(units, item)
+			continue
+		}
+		for text := item.Text; text != ""; {
+			_, width := utf8.DecodeRuneInString(text)
+			item.Text, text = text[:width], text[width:]
+			units = append(units, item)
+		}
+	}
+	return units
 }

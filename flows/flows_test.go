@@ -48,6 +48,22 @@ func TestAll(t *testing.T) {
 	}
 }
 
+func TestUnits(t *testing.T) {
+	bold := api.Prop{Key: api.KeyBold, Value: 1}
+	text, note, table := samples.Text, samples.Note(3, samples.Text("ab")), samples.Table(4, samples.Row(samples.Cell(5, samples.Text("cd"))))
+	for i, c := range [][2][]api.Item{
+		{nil, nil}, {{text("")}, nil}, {{text("a")}, {text("a")}},
+		{{text("a\u00e9", bold), text("\U0001F600"), samples.Para(), text("\n\uFFFD")}, {text("a", bold), text("\u00e9", bold), text("\U0001F600"), samples.Para(), text("\n"), text("\uFFFD")}},
+		{{note, samples.Field("page"), table, samples.Anchor(api.CommentEnd, 1)}, {note, samples.Field("page"), table, samples.Anchor(api.CommentEnd, 1)}},
+		{{text("a\xFF\xC3b")}, {text("a"), text("\xFF"), text("\xC3"), text("b")}},
+	} {
+		before := fmt.Sprintf("%+v", c[0])
+		if got := flows.Units(c[0]); fmt.Sprintf("%+v", got) != fmt.Sprintf("%+v", c[1]) || fmt.Sprintf("%+v", c[0]) != before {
+			t.Errorf("%d: Units = %+v; want %+v", i, got, c[1])
+		}
+	}
+}
+
 // TestAllDeep nests flows as deeply as the document permits.
 func TestAllDeep(t *testing.T) {
 	const depth = 1 << 16

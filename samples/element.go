@@ -39,17 +39,18 @@ func Doc(l ...api.Item) api.Document { return api.Document{Flow: l} }
 // Wrong makes a document of which some items are not valid in some way.
 func Wrong(pick func(n int) int) api.Document {
 	d := Document(pick)
-	spoil(pick, d.Flow)
+	Spoil(pick, d.Flow)
 	return d
 }
 
-func spoil(pick func(n int) int, l []api.Item) {
+// Spoil makes some items of a flow, at any depth, not valid.
+func Spoil(pick func(n int) int, l []api.Item) {
 	for i := range l {
 		item := &l[i]
-		spoil(pick, item.Flow)
+		Spoil(pick, item.Flow)
 		for _, row := range item.Rows {
 			for _, cell := range row.Cells {
-				spoil(pick, cell.Flow)
+				Spoil(pick, cell.Flow)
 			}
 		}
 		switch pick(8) {

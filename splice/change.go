@@ -6,6 +6,7 @@ import (
 
 	"obelus/api"
 	"obelus/document"
+	"obelus/flows"
 	"obelus/run"
 )
 
@@ -140,5 +141,5 @@ func (c change) swap(at int, old, new []api.Item) api.Splice {
 
 func unitsIn(d api.Document, flow int) []api.Item {
 	l, _ := document.Flow(d, flow)
-	return unitsOf(l)
+	return flows.Units(l)
 }

@@ -1,9 +1,8 @@
 package splice
 
 import (
-	"unicode/utf8"
-
 	"obelus/api"
+	"obelus/flows"
 	"obelus/run"
 )
 
@@ -36,7 +35,7 @@ func (g gap) piece(d api.Document, count int) api.Piece {
 
 // flowGap returns the only gap of two flows with the same id, rowsGap that of two tables, and cellsGap that of two rows.
 func flowGap(id int, a, b []api.Item) (g gap, differ bool) {
-	r := restOf(unitsOf(a), unitsOf(b), itemGap)
+	r := restOf(flows.Units(a), flows.Units(b), itemGap)
 	return r.or(gap{kind: api.SpliceItems, id: id, at: r.at, old: r.old, new: r.new})
 }
 
@@ -110,21 +109,4 @@ func (r rest) or(whole gap) (g gap, differ bool) {
 		return r.inside, true
 	}
 	return whole, r.old+r.new > 0
-}
-
-// unitsOf returns the units of a flow, each as an item of its own.
-func unitsOf(l []api.Item) []api.Item {
-	var units []api.Item
-	for _, item := range l {
-		if item.Kind != api.Text {
-			units = append(units, item)
-			continue
-		}
-		for text := item.Text; text != ""; {
-			_, width := utf8.DecodeRuneInString(text)
-			item.Text, text = text[:width], text[width:]
-			units = append(units, item)
-		}
-	}
-	return units
 }
